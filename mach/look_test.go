@@ -115,15 +115,15 @@ func isCsr(n int) bool {
 func TestCsrOfANewMachine(t *testing.T) {
 	m := made(t, 64)
 	for n := -5; n < 0x2000; n++ {
-		want, error := 0, api.OK
+		want, answer := 0, api.OK
 		if n == api.CsrMisa {
 			want = 0x40141105
 		}
 		if !isCsr(n) {
-			error = api.ErrArg
+			answer = api.ErrArg
 		}
-		if v, e := m.Csr(n); v != want || e != error {
-			t.Errorf("Csr(%#x): %#x, %v, want %#x, %v", n, v, e, want, error)
+		if v, e := m.Csr(n); v != want || e != answer {
+			t.Errorf("Csr(%#x): %#x, %v, want %#x, %v", n, v, e, want, answer)
 		}
 	}
 	for _, n := range []int{math.MinInt, math.MaxInt, 1<<32 + api.CsrMisa, -api.CsrMisa} {
