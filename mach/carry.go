@@ -2,7 +2,7 @@ package mach
 
 import "machine/api"
 
-// carryOut does what an instruction does, but for pc (P10, P11). w is its word.
+// carryOut does what an instruction does, but for pc (P10 to P14). w is its word.
 func (x *Machine) carryOut(i api.Ins, w int) exception {
 	switch {
 	case hasResult(i.Op):
@@ -21,8 +21,14 @@ func (x *Machine) carryOut(i api.Ins, w int) exception {
 		return exception{cause: api.CauseCallUser + x.hart.mode}
 	case i.Op == api.Ebreak:
 		return exception{api.CauseBreak, x.hart.pc}
+	case i.Op >= api.Csrrw && i.Op <= api.Csrrci && x.mayAccess(i):
+		x.changeCsr(i)
+		return fine()
+	case i.Op >= api.Mret && i.Op <= api.SfenceVma && x.mayDo(i.Op):
+		x.privileged(i.Op)
+		return fine()
 	}
-	// Words that mean nothing, and the instructions of CSRs and traps (P13, P14), which are not built yet.
+	// A word that means nothing, or one that may not be in this mode.
 	return exception{api.CauseIllegal, w}
 }
 
@@ -34,6 +40,10 @@ func (x *Machine) nextPc(i api.Ins) int {
 	case i.Op == api.Jalr:
 		target := word(x.register(i.Rs1) + i.Imm)
 		return target - target%2
+	case i.Op == api.Mret:
+		return x.csrs.mepc
+	case i.Op == api.Sret:
+		return x.csrs.sepc
 	}
 	return x.behind(i)
 }

@@ -15,11 +15,38 @@ type csrs struct {
 
 // Bits of mstatus.
 const (
+	statusSie      = 1 << 1
 	statusMie      = 1 << 3
+	statusSpie     = 1 << 5
 	statusMpie     = 1 << 7
+	statusSpp      = 1 << statusSppShift
+	statusSppShift = 8
 	statusMpp      = 3 << statusMppShift
 	statusMppShift = 11
-	superStatus    = 0xc0122 // those that sstatus has: SIE, SPIE, SPP, SUM, MXR
+	statusMprv     = 1 << 17
+	statusTvm      = 1 << 20
+	statusTw       = 1 << 21
+	statusTsr      = 1 << 22
+	machStatus     = 0x7e19aa // all that it keeps
+	superStatus    = 0xc0122  // those that sstatus has: SIE, SPIE, SPP, SUM, MXR
+)
+
+// What other CSRs keep.
+const (
+	keptMedeleg = 0xb3ff
+	keptMideleg = 0x222
+	keptMie     = 0xaaa
+	keptMip     = 0x222
+	keptCounter = 7 // of mcounteren and scounteren
+	keptInhibit = countCycle | countInstret
+	lostOfTvec  = 2
+	lostOfEpc   = 1
+)
+
+// The counters, as bits of mcountinhibit.
+const (
+	countCycle   = 1
+	countInstret = 4
 )
 
 // readCsr tells what a CSR reads, and whether there is such a one (P13).

@@ -48,3 +48,16 @@ func oneIf(so bool) int {
 	}
 	return 0
 }
+
+// hasBit tells whether a bit of v, 0 the lowest, is set.
+func hasBit(v int, bit int) bool {
+	return bit >= 0 && v>>bit&1 != 0
+}
+
+// setIf tells v with the bits of a mask set, if it is so, else cleared.
+func setIf(v int, mask int, so bool) int {
+	if so {
+		return v | mask
+	}
+	return v &^ mask
+}

@@ -18,23 +18,43 @@ func fine() exception {
 	return exception{cause: api.NoCause}
 }
 
+// act does a step, but for the counters that go on with it; it tells which of them were written, as bits of mcountinhibit.
+func (x *Machine) act() (api.Did, int) {
+	if x.hart.waits && x.asked() == 0 {
+		return api.Did{Kind: api.Idle}, 0
+	}
+	x.hart.waits = false
+	cause := x.interrupt()
+	if cause != api.NoCause {
+		x.trapInterrupt(cause)
+		return api.Did{Kind: api.Interrupt, Cause: cause}, 0
+	}
+	i, met := x.instruct()
+	if !met.none() {
+		x.trapException(met)
+		return api.Did{Kind: api.Exception, Cause: met.cause}, 0
+	}
+	return api.Did{Kind: api.Retired}, countersWritten(i)
+}
+
 // instruct fetches the instruction at pc and carries it out (P8).
-func (x *Machine) instruct() exception {
+func (x *Machine) instruct() (api.Ins, exception) {
 	w, met := x.fetch()
 	if !met.none() {
-		return met
+		return api.Ins{}, met
 	}
 	i, e := isa.Decode(w)
 	if e != api.OK {
-		return exception{api.CauseIllegal, w}
+		return api.Ins{}, exception{api.CauseIllegal, w}
 	}
 	// Ahead of the effect, since jalr's rs1 may be its rd.
 	next := x.nextPc(i)
 	met = x.carryOut(i, w)
-	if met.none() {
-		x.hart.pc = next
+	if !met.none() {
+		return api.Ins{}, met
 	}
-	return met
+	x.hart.pc = next
+	return i, met
 }
 
 // fetch tells the word at pc.
@@ -57,29 +77,12 @@ func (x *Machine) fetchHalf(address int) (int, exception) {
 	return x.ramNumber(address, 2), fine()
 }
 
-// count lets the counters go on behind a step (P8).
-func (x *Machine) count(retired bool) {
-	x.csrs.cycle = x.csrs.cycle.plus(1)
-	if retired {
+// count lets the counters go on behind a step, but for those that are held: bits of mcountinhibit (P8).
+func (x *Machine) count(retired bool, held int) {
+	if held&countCycle == 0 {
+		x.csrs.cycle = x.csrs.cycle.plus(1)
+	}
+	if retired && held&countInstret == 0 {
 		x.csrs.instret = x.csrs.instret.plus(1)
 	}
-}
-
-// trap takes an exception to mode M, where all of them go in mode M (P14).
-func (x *Machine) trap(met exception) {
-	x.csrs.mepc = x.hart.pc
-	x.csrs.mcause = met.cause
-	x.csrs.mtval = met.tval
-	x.csrs.mstatus = trapStatus(x.csrs.mstatus, x.hart.mode)
-	x.hart.mode = api.Mach
-	x.hart.pc = x.csrs.mtvec - x.csrs.mtvec%4
-}
-
-// trapStatus tells mstatus behind a trap to mode M that was met in a mode.
-func trapStatus(status int, mode int) int {
-	kept := status &^ (statusMie | statusMpie | statusMpp)
-	if status&statusMie != 0 {
-		kept = kept | statusMpie
-	}
-	return kept | mode<<statusMppShift
 }
