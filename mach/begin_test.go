@@ -233,3 +233,77 @@ func TestMachinesKnowNothingOfEachOther(t *testing.T) {
 		t.Errorf("what a machine does is seen by another")
 	}
 }
+
+// crowded tells a machine in mode S that waits, has a word reserved, and none of whose CSRs that can be written is 0.
+func crowded(t *testing.T) *mach.Machine {
+	t.Helper()
+	m := entered(t, api.Super, []put{
+		{api.CsrMedeleg, 0xb3ff}, {api.CsrMideleg, 0x220}, {api.CsrMie, stime}, {api.CsrMip, ssoft | sext}, {api.CsrMtvec, base + 0x101}, {api.CsrMcounteren, 3}, {api.CsrMcountinhibit, 4},
+		{api.CsrMscratch, 11}, {api.CsrMcause, 12}, {api.CsrMtval, 13}, {api.CsrStvec, base + 0x201}, {api.CsrScounteren, 5},
+		{api.CsrSscratch, 14}, {api.CsrSepc, base + 0x300}, {api.CsrScause, 15}, {api.CsrStval, 16}, {api.CsrSatp, 0x12345},
+		{api.CsrMcycleh, 17}, {api.CsrMinstreth, 18}, {api.CsrMinstret, 19}, {api.CsrMstatus, tsr | tvm | 0xc0122},
+	},
+		set(1, base+0x700), set(2, api.TimerBase), set(3, api.PortBase), set(4, api.TimerBase+0x4000), "sw x1, 4(x4)",
+		"addi x5, x0, 1", "sw x5, 0(x2)", "sb x5, 7(x3)", "sb x5, 1(x3)", "sb x5, 0(x3)", "lr.w x6, x1, 0", "wfi")
+	retire(t, m, 16)
+	m.Tick(99)
+	for _, n := range shownCsrs() {
+		if shownCsr(t, m, n) == 0 {
+			t.Fatalf("%#x is 0", n)
+		}
+	}
+	wantWaits(t, m, true)
+	wantReserved(t, m, base+0x700)
+	wantMode(t, m, api.Super)
+	return m
+}
+
+func TestResetOfEveryCsr(t *testing.T) {
+	m := crowded(t)
+	ram := peek(t, m, 0, 4096)
+	m.Reset()
+	if m.Show() != fresh() {
+		t.Errorf("Reset: % x", m.Show())
+	}
+	wantRam(t, m, 0, ram)
+	n := made(t, 4096)
+	lay(t, n, 0, ram)
+	if whole(t, m) != whole(t, n) {
+		t.Errorf("a machine that was reset differs from a new one with its RAM")
+	}
+}
+
+func TestCopyOfEveryCsr(t *testing.T) {
+	m := crowded(t)
+	before := whole(t, m)
+	c := m.Copy()
+	if whole(t, c) != before {
+		t.Errorf("a copy differs from what it was made of")
+	}
+	stir(t, c)
+	if whole(t, m) != before {
+		t.Errorf("what a copy does is seen by another machine")
+	}
+	m.Flush()
+	if whole(t, m) != before {
+		t.Errorf("Flush changes something")
+	}
+}
+
+// Show tells each CSR at its place.
+func TestShowOfEveryCsr(t *testing.T) {
+	m := crowded(t)
+	for _, n := range shownCsrs() {
+		want, e := m.Csr(n)
+		if n == api.CsrMip {
+			want = ssoft | sext // without the lines
+		}
+		if got := shownCsr(t, m, n); got != want || e != api.OK {
+			t.Errorf("Show tells %#x as %#x, want %#x", n, got, want)
+		}
+	}
+	s := m.Show()
+	if got := s[waitsAt : csrsAt+4]; got != "wr"+four(base+0x700)+"\x00"+"\x01"+four(tsr|tvm|0xc0122|mpie) {
+		t.Errorf("Show: % x", got)
+	}
+}
