@@ -123,7 +123,7 @@ func TestWhatATrapLeavesOfMstatus(t *testing.T) {
 		{api.Super, 1 << 3, mpie | mie | sie | 0x7e0000, mpie | mie | spie | spp | 0x7e0000},
 	} {
 		m := entered(t, c.mode, []put{{api.CsrMstatus, c.before}, {api.CsrMedeleg, c.deleg}}, "ebreak")
-		// On the way back from a mode to M mret clears MPRV.
+		// The mret that entered a mode below M has cleared MPRV.
 		before, _ := m.Csr(api.CsrMstatus)
 		if before&^mprv != c.before&^mprv {
 			t.Fatalf("mstatus %#x, want %#x", before, c.before)
