@@ -9,18 +9,22 @@ func (x *Machine) atomic(i api.Ins) exception {
 	if address%4 != 0 {
 		return exception{alignFault(purpose), address}
 	}
-	if !x.isRam(address, 4) {
-		return exception{accessFault(purpose), address}
+	at, met := x.translate(address, purpose)
+	if !met.none() {
+		return met
+	}
+	if !x.isRam(at, 4) {
+		return exception{faultCause(api.Access, purpose), address}
 	}
 	switch i.Op {
 	case api.LrW:
-		x.loadReserved(i, address)
+		x.loadReserved(i, at)
 	case api.ScW:
-		x.storeConditional(i, address)
+		x.storeConditional(i, at)
 	default:
-		x.modify(i, address)
+		x.modify(i, at)
 	}
-	return fine()
+	return met
 }
 
 func atomicPurpose(op int) int {
@@ -81,11 +85,4 @@ func modified(op int, was int, v int) int {
 		return choose(was > v, was, v)
 	}
 	return v
-}
-
-func choose(first bool, a int, b int) int {
-	if first {
-		return a
-	}
-	return b
 }

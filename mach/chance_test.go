@@ -109,7 +109,7 @@ func chanceIns(r *rand.Rand) api.Ins {
 		i.Rs1 = r.Intn(32)
 	}
 	if i.Imm == api.CsrSatp && i.Op < api.Csrrwi {
-		i.Op += 3 // The model knows no translation: satp's bit 31 stays 0.
+		i.Op += 3 // No word would be found any more, were satp's bit 31 set: there are no tables.
 	}
 	return i
 }

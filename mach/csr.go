@@ -24,6 +24,8 @@ const (
 	statusMpp      = 3 << statusMppShift
 	statusMppShift = 11
 	statusMprv     = 1 << 17
+	statusSum      = 1 << 18
+	statusMxr      = 1 << 19
 	statusTvm      = 1 << 20
 	statusTw       = 1 << 21
 	statusTsr      = 1 << 22

@@ -67,17 +67,14 @@ func (x *Machine) reach(address int, size int, purpose int) (portion, portion, e
 
 // reachPortion tells where a portion lies, if it may be accessed there.
 func (x *Machine) reachPortion(address int, size int, purpose int) (portion, exception) {
-	if !x.isRam(address, size) && !isTimer(address, size) && !isPort(address, size) {
-		return portion{}, exception{accessFault(purpose), address}
+	at, met := x.translate(address, purpose)
+	if !met.none() {
+		return portion{}, met
 	}
-	return portion{address, size}, fine()
-}
-
-func accessFault(purpose int) int {
-	if purpose == api.Load {
-		return api.CauseLoadAccess
+	if !x.isRam(at, size) && !isTimer(at, size) && !isPort(at, size) {
+		return portion{}, exception{faultCause(api.Access, purpose), address}
 	}
-	return api.CauseStoreAccess
+	return portion{at, size}, met
 }
 
 // read tells what lies at a portion; of the port that may change it.

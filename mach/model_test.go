@@ -1,6 +1,7 @@
 package mach_test
 
 import (
+	"fmt"
 	"testing"
 
 	"machine/api"
@@ -17,7 +18,7 @@ type model struct {
 	reservation string
 	lines       int // the bits of mip that the devices hold up
 	time        [2]int
-	size        int
+	ram         []byte
 }
 
 // masks are the bits that a CSR keeps.
@@ -32,7 +33,8 @@ var masks = map[int]int{
 
 func modelOf(m *mach.Machine) *model {
 	s := m.Show()
-	o := &model{csr: map[int]int{}, pc: wordAt(s, 0), mode: int(s[modeAt]), waits: s[waitsAt] == 'w', reservation: s[reservedAt:modeAt], size: m.Size()}
+	ram, _ := m.Peek(0, m.Size())
+	o := &model{csr: map[int]int{}, pc: wordAt(s, 0), mode: int(s[modeAt]), waits: s[waitsAt] == 'w', reservation: s[reservedAt:modeAt], ram: []byte(ram)}
 	for i := range o.x {
 		o.x[i] = wordAt(s, 4+4*i)
 	}
@@ -186,9 +188,7 @@ func (o *model) change(i api.Ins) {
 	if i.Op <= api.Csrrc {
 		operand = o.x[i.Rs1]
 	}
-	if i.Rd != 0 {
-		o.x[i.Rd] = was
-	}
+	o.setReg(i.Rd, was)
 	if !writes(i) {
 		return
 	}
@@ -221,28 +221,37 @@ func (o *model) leave(op int) {
 		o.csr[api.CsrMstatus] &^= mprv
 	}
 	o.mode = to
-	o.reservation = "-\x00\x00\x00\x00\x00"
+	o.reservation = nothingReserved
 }
 
-// instruct carries out the word at pc: one of P13 or P14, addi, ecall, ebreak or one that means nothing. It tells the exception's cause, or -1.
-func (o *model) instruct(m *mach.Machine) int {
-	fault := func(cause int, tval int) int {
+// setReg lays a number into a register.
+func (o *model) setReg(i int, v int) {
+	if i != 0 {
+		o.x[i] = v & 0xffffffff
+	}
+}
+
+// instruct carries out the word at pc: one of P11, P13 or P14, addi, jalr, ecall, ebreak or one that means nothing. It tells that word, and the exception's cause, or -1.
+func (o *model) instruct() (api.Ins, int) {
+	fault := func(cause int, tval int) (api.Ins, int) {
 		o.trap(cause, tval)
-		return cause
+		return api.Ins{}, cause
 	}
-	for _, at := range []int{o.pc, o.pc + 2} {
-		if at < base || at+2 > base+o.size {
-			return fault(1, at&0xffffffff)
-		}
+	w, cause, tval := o.fetch()
+	if cause >= 0 {
+		return fault(cause, tval)
 	}
-	s, _ := m.Peek(o.pc-base, 4)
-	w := wordAt(s, 0)
 	i, _ := isa.Decode(w)
-	next := o.pc + 4
+	next := o.pc + i.Len
 	switch {
 	case i.Op == api.Addi:
-		if i.Rd != 0 {
-			o.x[i.Rd] = (o.x[i.Rs1] + i.Imm) & 0xffffffff
+		o.setReg(i.Rd, o.x[i.Rs1]+i.Imm)
+	case i.Op == api.Jalr:
+		next = (o.x[i.Rs1] + i.Imm) &^ 1
+		o.setReg(i.Rd, o.pc+i.Len)
+	case i.Op >= api.Lb && i.Op <= api.Sw || i.Op >= api.LrW && i.Op <= api.AmoMaxu:
+		if cause, tval := o.access(i); cause >= 0 {
+			return fault(cause, tval)
 		}
 	case i.Op == api.Ecall:
 		return fault(8+o.mode, 0)
@@ -262,7 +271,7 @@ func (o *model) instruct(m *mach.Machine) int {
 		o.waits = true
 	}
 	o.pc = next & 0xffffffff
-	return -1
+	return i, -1
 }
 
 // count lets a counter go on.
@@ -271,8 +280,8 @@ func (o *model) count(n int) {
 	o.csr[n], o.csr[n+0x80] = int(uint32(v)), int(v>>32)
 }
 
-// step does a step. m is the machine whose model it is, ahead of that step.
-func (o *model) step(m *mach.Machine) api.Did {
+// step does a step.
+func (o *model) step() api.Did {
 	held := o.csr[api.CsrMcountinhibit]
 	did := api.Did{Kind: api.Idle}
 	if !o.waits || o.read(api.CsrMip)&o.csr[api.CsrMie] != 0 {
@@ -281,12 +290,12 @@ func (o *model) step(m *mach.Machine) api.Did {
 			o.trap(1<<31+n, 0)
 			did = api.Did{Kind: api.Interrupt, Cause: n}
 		} else {
-			held |= o.counters(m)
+			i, cause := o.instruct()
 			did = api.Did{Kind: api.Retired}
-			if cause := o.instruct(m); cause >= 0 {
+			if cause >= 0 {
 				did = api.Did{Kind: api.Exception, Cause: cause}
-				held = o.csr[api.CsrMcountinhibit]
 			}
+			held |= countersOf(i)
 		}
 	}
 	if held&1 == 0 {
@@ -298,17 +307,23 @@ func (o *model) step(m *mach.Machine) api.Did {
 	return did
 }
 
-// counters tells those that the word at pc writes, if it may be, as bits of mcountinhibit.
-func (o *model) counters(m *mach.Machine) int {
-	s, e := m.Peek(o.pc-base, 4)
-	if e != api.OK {
-		return 0
-	}
-	i, _ := isa.Decode(wordAt(s, 0))
+// countersOf tells those that an instruction writes, as bits of mcountinhibit.
+func countersOf(i api.Ins) int {
 	if i.Op < api.Csrrw || i.Op > api.Csrrci || !writes(i) {
 		return 0
 	}
 	return map[int]int{api.CsrMcycle: 1, api.CsrMcycleh: 1, api.CsrMinstret: 4, api.CsrMinstreth: 4}[i.Imm]
+}
+
+// unlike tells the words in which two RAMs differ.
+func unlike(got string, want string) string {
+	s := ""
+	for at := 0; at+4 <= len(got); at += 4 {
+		if got[at:at+4] != want[at:at+4] {
+			s += fmt.Sprintf(" at %#x %#x, want %#x;", at, wordAt(got, at), wordAt(want, at))
+		}
+	}
+	return s
 }
 
 // follows does a step that must do what the model of the machine does.
@@ -319,9 +334,12 @@ func follows(t *testing.T, m *mach.Machine) api.Did {
 	if o.shown() != before[:devicesAt] {
 		t.Fatalf("the model does not read Show: % x", before)
 	}
-	want := o.step(m)
+	want := o.step()
 	got := m.Step()
 	after := m.Show()
+	if ram := peek(t, m, 0, m.Size()); ram != string(o.ram) {
+		t.Fatalf("at %#x in mode %d: %v, want %v\nRAM: %s", wordAt(before, 0), before[modeAt], got, want, unlike(ram, string(o.ram)))
+	}
 	if got != want || after[:devicesAt] != o.shown() || after[devicesAt:] != before[devicesAt:] {
 		p := modelOf(m)
 		t.Fatalf("at %#x in mode %d: %v, want %v\npc %#x, want %#x, mode %d, want %d\nCSRs %x\nwant %x", wordAt(before, 0), before[modeAt], got, want, p.pc, o.pc, p.mode, o.mode, p.csr, o.csr)

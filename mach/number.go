@@ -49,6 +49,13 @@ func oneIf(so bool) int {
 	return 0
 }
 
+func choose(first bool, a int, b int) int {
+	if first {
+		return a
+	}
+	return b
+}
+
 // hasBit tells whether a bit of v, 0 the lowest, is set.
 func hasBit(v int, bit int) bool {
 	return bit >= 0 && v>>bit&1 != 0

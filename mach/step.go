@@ -71,10 +71,14 @@ func (x *Machine) fetch() (int, exception) {
 }
 
 func (x *Machine) fetchHalf(address int) (int, exception) {
-	if !x.isRam(address, 2) {
+	at, met := x.translate(address, api.Fetch)
+	if !met.none() {
+		return 0, met
+	}
+	if !x.isRam(at, 2) {
 		return 0, exception{api.CauseFetchAccess, address}
 	}
-	return x.ramNumber(address, 2), fine()
+	return x.ramNumber(at, 2), met
 }
 
 // count lets the counters go on behind a step, but for those that are held: bits of mcountinhibit (P8).
