@@ -115,18 +115,7 @@ func wantFault(t *testing.T, w world, op int, address int, cause int, tval int, 
 	}
 	m := w.stands(t, base+codeAt, address, stored, line)
 	m.Feed("ab")
-	before := m.Show()
-	ram := []byte(peek(t, m, 0, w.size))
-	for k := 0; k < len(marked); k += 2 {
-		copy(ram[marked[k]:], four(marked[k+1]))
-	}
-	meets(t, m, cause, tval)
-	if after := m.Show(); after[4:modeAt] != before[4:modeAt] || after[devicesAt:] != before[devicesAt:] {
-		t.Errorf("registers, a reservation or devices change")
-	}
-	if got := peek(t, m, 0, w.size); got != string(ram) {
-		t.Errorf("RAM%s", unlike(got, string(ram)))
-	}
+	meetsAlone(t, m, cause, tval, marked...)
 	if t.Failed() {
 		t.Fatalf("%s at %#x, mode %d, entries %#x", api.Name(op), address, w.mode, w.entries)
 	}

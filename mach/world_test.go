@@ -124,13 +124,10 @@ func (w world) about(t *testing.T, purpose int, address int) *mach.Machine {
 }
 
 // lands carries out an access that must find the word at a place of RAM; all else of RAM is to be as it was, but for entries, by their places.
-func (w world) lands(t *testing.T, purpose int, address int, place int, marked ...int) *mach.Machine {
+func (w world) lands(t *testing.T, purpose int, address int, place int, marked ...int) {
 	t.Helper()
 	m := w.about(t, purpose, address)
-	ram := []byte(peek(t, m, 0, w.size))
-	for k := 0; k < len(marked); k += 2 {
-		copy(ram[marked[k]:], four(marked[k+1]))
-	}
+	ram := marks(t, m, marked)
 	if d := m.Step(); d != (api.Did{Kind: api.Retired}) {
 		t.Fatalf("purpose %d, %#x, mode %d, mstatus %#x: %v", purpose, address, w.mode, w.status, d)
 	}
@@ -149,31 +146,42 @@ func (w world) lands(t *testing.T, purpose int, address int, place int, marked .
 	if t.Failed() {
 		t.Fatalf("purpose %d, %#x, mode %d, mstatus %#x", purpose, address, w.mode, w.status)
 	}
-	return m
 }
 
 // fails carries out an access that must meet a fault; RAM is to be as it was, but for entries, by their places.
-func (w world) fails(t *testing.T, purpose int, address int, fault int, marked ...int) *mach.Machine {
+func (w world) fails(t *testing.T, purpose int, address int, fault int, marked ...int) {
 	t.Helper()
 	m := w.about(t, purpose, address)
-	before := m.Show()
-	ram := []byte(peek(t, m, 0, w.size))
-	for k := 0; k < len(marked); k += 2 {
-		copy(ram[marked[k]:], four(marked[k+1]))
-	}
-	meets(t, m, faultCauses[purpose][fault], address)
-	if after := m.Show(); after[4:modeAt] != before[4:modeAt] || after[devicesAt:] != before[devicesAt:] {
-		t.Errorf("a fault changes registers, a reservation or devices")
-	}
-	wantMode(t, m, api.Mach)
-	wantPc(t, m, trapsAt)
-	if got := peek(t, m, 0, w.size); got != string(ram) {
-		t.Errorf("RAM%s", unlike(got, string(ram)))
-	}
+	meetsAlone(t, m, faultCauses[purpose][fault], address, marked...)
 	if t.Failed() {
 		t.Fatalf("purpose %d, %#x, mode %d, mstatus %#x", purpose, address, w.mode, w.status)
 	}
-	return m
+}
+
+// meetsAlone does a step that must meet an exception, which is taken to mode M, and change nothing else but entries, by their places.
+func meetsAlone(t *testing.T, m *mach.Machine, cause int, tval int, marked ...int) {
+	t.Helper()
+	before := m.Show()
+	ram := marks(t, m, marked)
+	meets(t, m, cause, tval)
+	if after := m.Show(); after[4:modeAt] != before[4:modeAt] || after[devicesAt:] != before[devicesAt:] {
+		t.Errorf("registers, a reservation or devices change")
+	}
+	wantMode(t, m, api.Mach)
+	wantPc(t, m, trapsAt)
+	if got := peek(t, m, 0, m.Size()); got != string(ram) {
+		t.Errorf("RAM%s", unlike(got, string(ram)))
+	}
+}
+
+// marks tells what RAM is with entries changed, by their places.
+func marks(t *testing.T, m *mach.Machine, marked []int) []byte {
+	t.Helper()
+	ram := []byte(peek(t, m, 0, m.Size()))
+	for k := 0; k < len(marked); k += 2 {
+		copy(ram[marked[k]:], four(marked[k+1]))
+	}
+	return ram
 }
 
 // purposes are all that an access may be for.
